@@ -1,0 +1,1 @@
+"""Calledanew: parts of a screen that are called anew."""

@@ -1,0 +1,165 @@
+"""Point 2: new lists, unchanged arguments, deep values, and the same answer to the same question."""
+
+import copy
+import unittest
+
+from calledanew.errors import CalledError, InvalidPart, InvalidPath, InvalidRule
+from calledanew.parts import Part
+from calledanew.rules import Rule, all_rules
+from samples import (EVENTS, INPUTS, RICH_FUNCTIONS, RICH_HOOKS, RICH_ROWS, SWAP, WORDS, handler, nested, part_of,
+                     rich_part, with_item)
+
+ROWS = (("cell", "a", "off"), ("effect", ("a",), (("say", "a"), ("later", (("say", "a"),))), ()),
+        ("handler", "go", None, (("turn", "a", SWAP), ("if", "a", "on", (("say", "a"),), ()))),
+        ("if", "x", "on", (("show", "x"),), (("map", "m", "x", SWAP),)), ("kept", "k", "x", SWAP, ("x",)))
+
+
+def answers(part):
+    """All that can be asked about a part."""
+    return [part.slots(), part.hooks(), part.functions(), part.row_paths(), part.is_steady(),
+            [part.row_at(path) for path in part.row_paths()], [part.held(path) for path in part.functions()],
+            [part.links(path) for path in part.functions()], part.words, part.inputs, part.events, part.rows]
+
+
+class NewLists(unittest.TestCase):
+
+    def test_a_changed_list_changes_no_later_answer(self):
+        part = rich_part()
+        for ask, expected in ((part.hooks, RICH_HOOKS), (part.functions, RICH_FUNCTIONS), (part.row_paths, RICH_ROWS)):
+            first = ask()
+            self.assertIsNot(ask(), first)
+            first.reverse()
+            first.append((99,))
+            del first[0]
+            self.assertEqual(ask(), expected)
+            ask().clear()
+            self.assertEqual(ask(), expected)
+        self.assertEqual(answers(part), answers(rich_part()))
+        self.assertEqual(part.row_at((0,)), ("cell", "a", "off"))
+
+    def test_lists_of_rules(self):
+        first = all_rules()
+        first.clear()
+        self.assertEqual(len(all_rules()), 4)
+
+
+class Arguments(unittest.TestCase):
+
+    def test_no_argument_is_modified(self):
+        components = [["off", "on"], ["x"], ["go"], [["cell", "a", "off"], {"a": [1, (2, [3])]}]]
+        before = copy.deepcopy(components)
+        right = (WORDS, INPUTS, EVENTS, ROWS)
+        for at, value in enumerate(components):
+            with self.assertRaises(InvalidPart):
+                Part(*with_item(right, at, value))
+        self.assertEqual(components, before)
+
+    def test_paths_and_rows_are_not_modified(self):
+        part = rich_part()
+        for value in ([0], [[0]], {"a": [0]}, [(0,), {"b": (1,)}]):
+            before = copy.deepcopy(value)
+            for ask in (part.row_at, part.held, part.links, lambda path: part.with_row(path, value)):
+                with self.assertRaises(InvalidPath):
+                    ask(value)
+            with self.assertRaises(InvalidPart):
+                part.with_row((0,), value)
+            with self.assertRaises(InvalidRule):
+                Rule(value, value)
+            self.assertEqual(value, before)
+
+
+def positions(value, path=()):
+    """All places inside nested tuples."""
+    yield path
+    if isinstance(value, tuple):
+        for at, item in enumerate(value):
+            yield from positions(item, path + (at,))
+
+
+def placed(value, path, item):
+    """The nested tuples with another item at one place."""
+    if not path:
+        return item
+    return with_item(value, path[0], placed(value[path[0]], path[1:], item))
+
+
+class AnyValues(unittest.TestCase):
+
+    def test_deep_values_in_each_component(self):
+        right = (WORDS, INPUTS, EVENTS, ROWS)
+        for at, name in enumerate(("words", "inputs", "events")):
+            for value in nested(20):
+                with self.assertRaises(InvalidPart) as caught:
+                    Part(*with_item(right, at, value))
+                self.assertEqual((caught.exception.part, caught.exception.path), (name, ()))
+        for value in nested(20):
+            with self.assertRaises(InvalidPart) as caught:
+                Part(*right[:3], value)
+            expected = (0,) if isinstance(value, tuple) else ()
+            self.assertEqual((caught.exception.part, caught.exception.path), ("rows", expected))
+
+    def test_every_place_of_the_components_with_every_sort_of_value(self):
+        right = (WORDS, INPUTS, EVENTS, ROWS)
+        values = [None, True, False, 0, 1, -1, 10 ** 40, "", "a", "A", "x" * 9, (), [], {}, ("a",), ["a"], {"a": ()},
+                  {(): {}}] + list(nested(12))
+        for path in positions(right):
+            for value in values if path else []:
+                components = placed(right, path, value)
+                with self.subTest(path=path, value=value):
+                    try:
+                        part = Part(*components)
+                    except InvalidPart as error:
+                        self.assertIn(error.part, ("words", "inputs", "events", "rows", "names", "many"))
+                        self.assertIs(type(error.path), tuple)
+                    else:
+                        self.assertIs(part.rows, components[3])
+
+    def test_if_rows_nested_far_too_deep(self):
+        row = ("show", "x")
+        for depth in range(20):
+            row = ("if", "x", "on", (row,), ())
+        with self.assertRaises(InvalidPart) as caught:
+            Part(WORDS, INPUTS, EVENTS, (row,))
+        self.assertEqual((caught.exception.part, caught.exception.path), ("rows", (0, 0, 0, 0, 0, 0, 0)))
+        row = ("say", "x")
+        for depth in range(20):
+            row = ("later", (row,))
+        with self.assertRaises(InvalidPart) as caught:
+            part_of(handler(row))
+        self.assertEqual((caught.exception.part, caught.exception.path), ("rows", (2, 0, 0, 0, 0)))
+
+    def test_many_rows_on_end(self):
+        with self.assertRaises(InvalidPart) as caught:
+            Part(WORDS, INPUTS, EVENTS, (("show", "x"),) * 5000)
+        self.assertEqual((caught.exception.part, caught.exception.path), ("many", ()))
+        with self.assertRaises(InvalidPath):
+            rich_part().row_at((0,) * 5000)
+        with self.assertRaises(InvalidPath):
+            rich_part().with_row((0,) * 5000, ("show", "x"))
+
+
+class SameAnswers(unittest.TestCase):
+
+    def test_between_questions_to_another_part(self):
+        first = rich_part()
+        second = Part(WORDS, INPUTS, EVENTS, ROWS)
+        first_answers, second_answers = answers(first), answers(second)
+        self.assertNotEqual(first_answers, second_answers)
+        for count in range(3):
+            self.assertEqual(answers(first), first_answers)
+            self.assertEqual(answers(second), second_answers)
+            self.assertEqual(answers(rich_part()), first_answers)
+
+    def test_a_refused_call_changes_nothing(self):
+        part = rich_part()
+        before = answers(part)
+        for wrong in (lambda: part.row_at((99,)), lambda: part.held((0,)), lambda: part.links(None),
+                      lambda: part.with_row((99,), None), lambda: part.with_row((0,), None),
+                      lambda: part.with_row((0,), ("cell", "x", "off"))):
+            with self.assertRaises(CalledError):
+                wrong()
+            self.assertEqual(answers(part), before)
+
+
+if __name__ == "__main__":
+    unittest.main()
