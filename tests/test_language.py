@@ -7,7 +7,7 @@ import unittest
 
 PACKAGE = pathlib.Path(__file__).resolve().parent.parent / "calledanew"
 BARRED = re.compile(r"\b(type|typing|typing_extensions|enum|Enum|Flag|Generic|Protocol|ABC|namedtuple|NamedTuple)\b"
-                    r"|dataclass|overload|contextmanager|__slots__ =.*__slots__")
+                    r"|dataclass|overload|contextmanager")
 ONLY_LISTS = ("any", "all", "sum", "min", "max", "sorted")
 OWN = {"__init__", "__eq__", "__repr__", "__str__", "__len__", "__call__", "__iter__", "__contains__", "__getitem__",
        "__setitem__", "__bool__", "__or__", "__and__", "__sub__", "__ior__"}
