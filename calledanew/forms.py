@@ -1,6 +1,6 @@
 """The forms of rows: what each item of a row is and where the row may stand."""
 
-from calledanew.values import are_names, is_name
+from calledanew.values import are_names, are_words, is_name
 
 HOOK_KINDS = ("cell", "box", "kept", "effect", "handler")
 CALL_KINDS = ("cell", "box", "kept", "effect", "handler", "put", "map", "if", "show")
@@ -28,16 +28,12 @@ FORMS = {
 # The index of the first tuple of rows; nothing stands behind these tuples.
 FIRST_ROWS = {"if": 3, "effect": 2, "handler": 3, "later": 1}
 
+# The index of the list in the rows that have one.
+LIST_PLACES = {"kept": 4, "effect": 1, "handler": 2}
+
 MOST_LIST = 4
 DEEPEST_CALL_IF = 3
 DEEPEST_FUNCTION_IF = 2
-
-
-def is_table(value, words):
-    """Tell whether the value is a tuple with one of the words for each word."""
-    if not isinstance(value, tuple) or len(value) != len(words):
-        return False
-    return all([item in words for item in value])
 
 
 def item_fits(role, item, words, events):
@@ -47,7 +43,7 @@ def item_fits(role, item, words, events):
     if role == "event":
         return item in events
     if role == "table":
-        return is_table(item, words)
+        return are_words(item, words, len(words), len(words))
     if role == "list":
         return are_names(item, 0, MOST_LIST)
     if role == "list or none":

@@ -4,7 +4,7 @@ from calledanew.checks import check_part
 from calledanew.errors import InvalidPath
 from calledanew.forms import HOOK_KINDS, slots_in
 from calledanew.holding import held_slots, links_of
-from calledanew.places import ALL_ROWS, functions_within, rows_with, rows_within
+from calledanew.places import ALL_ROWS, functions_within, rows_with, rows_within, tuples_within
 from calledanew.values import is_path
 
 
@@ -21,6 +21,7 @@ class Part:
         self.events = events
         self.rows = rows
         functions = functions_within(rows, ())
+        self.placed_rows = {path: placed for path, placed in tuples_within(rows, ())}
         self.row_table = {path: row for path, row in rows_within(rows, (), ALL_ROWS)}
         self.held_table = {path: held_slots(inner) for path, inner in functions}
         self.link_table = {path: links_of(inner) for path, inner in functions}

@@ -24,6 +24,19 @@ def rows_within(rows, path, through):
     return found
 
 
+def tuples_within(rows, path):
+    """List (path, [(path, row), ..]) of this tuple of rows and of each one inside it.
+
+    The path of a tuple of rows is what the paths of its rows have ahead of their place.
+    """
+    placed = [(path + (place,), row) for place, row in enumerate(rows)]
+    found = [(path, placed)]
+    for at, row in placed:
+        for number, inner in enumerate(inner_rows(row)):
+            found.extend(tuples_within(inner, at + (number,)))
+    return found
+
+
 def functions_within(rows, path):
     """List (path, rows) of the functions in these rows, in program order."""
     found = []

@@ -20,6 +20,13 @@ def are_names(value, fewest, most):
     return all([is_name(item) for item in value]) and len(set(value)) == len(value)
 
 
+def are_words(value, words, fewest, most):
+    """Tell whether the value is a tuple of `fewest` to `most` items that are all among the words."""
+    if not isinstance(value, tuple) or not fewest <= len(value) <= most:
+        return False
+    return all([item in words for item in value])
+
+
 def is_path(value):
     """Tell whether the value is a tuple of integers.
 

@@ -3,9 +3,12 @@
 import copy
 import unittest
 
+from calledanew.calling import begin, step
 from calledanew.errors import CalledError, InvalidPart, InvalidPath, InvalidRule
+from calledanew.live import Live
 from calledanew.parts import Part
 from calledanew.rules import Rule, all_rules
+from calledanew.standings import is_event, is_standing
 from samples import (EVENTS, INPUTS, RICH_FUNCTIONS, RICH_HOOKS, RICH_ROWS, SWAP, WORDS, handler, nested, part_of,
                      rich_part, with_item)
 
@@ -66,6 +69,34 @@ class Arguments(unittest.TestCase):
             with self.assertRaises(InvalidRule):
                 Rule(value, value)
             self.assertEqual(value, before)
+
+    def test_values_for_starts_events_and_live_parts_are_not_modified(self):
+        part, rule = Part(WORDS, INPUTS, EVENTS, ROWS), Rule("each", "call")
+        standing = begin(part, rule, ("on",)).after
+        live = Live(part, rule, ("on",))
+        for value in ([0], [["on"]], {"a": ["on"]}, ["on", {"x": (["on"],)}], (["on"], {}), list(standing)):
+            before = copy.deepcopy(value)
+            self.assertEqual([is_standing(part, value), is_event(part, value)], [False, False])
+            for ask in (lambda: begin(part, rule, value), lambda: step(part, rule, value, value), lambda: live(value),
+                        lambda: step(part, rule, standing, value),
+                        lambda: step(part, rule, standing, value, most=value),
+                        lambda: Live(part, rule, value), lambda: Live.resumed(part, rule, value),
+                        lambda: live.press(value),
+                        lambda: live.hand(value, value), lambda: live.hand("x", value), lambda: live.set_bound(value)):
+                with self.assertRaises(CalledError):
+                    ask()
+            self.assertEqual(value, before)
+        self.assertEqual([len(live), live.standing()], [0, standing])
+
+    def test_standings_words_and_events_are_not_modified(self):
+        part = Part(WORDS, INPUTS, EVENTS, ROWS)
+        for rule in all_rules():
+            words, event = ("on",), ("press", "go")
+            standing = begin(part, rule, words).after
+            before = copy.deepcopy((words, event, standing, part.rows))
+            step(part, rule, standing, event)
+            Live.resumed(part, rule, standing)(event)
+            self.assertEqual((words, event, standing, part.rows), before)
 
 
 def positions(value, path=()):

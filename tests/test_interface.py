@@ -3,30 +3,81 @@
 import inspect
 import unittest
 
-from calledanew import errors, parts, rules
+from calledanew import calling, errors, judge, live, parts, rules, standings
 
-METHODS = {"__init__": ["self", "words", "inputs", "events", "rows"], "__eq__": None, "slots": ["self"],
-           "hooks": ["self"], "functions": ["self"], "held": ["self", "path"], "links": ["self", "path"],
-           "is_steady": ["self"], "row_paths": ["self"], "row_at": ["self", "path"],
-           "with_row": ["self", "path", "row"]}
+PART_METHODS = {"__init__": ["self", "words", "inputs", "events", "rows"], "__eq__": None, "slots": ["self"],
+                "hooks": ["self"], "functions": ["self"], "held": ["self", "path"], "links": ["self", "path"],
+                "is_steady": ["self"], "row_paths": ["self"], "row_at": ["self", "path"],
+                "with_row": ["self", "path", "row"]}
+LIVE_METHODS = {"__init__": ["self", "part", "rule", "words", "most"], "set_bound": ["self", "value"],
+                "press": ["self", "event"], "tick": ["self"], "hand": ["self", "name", "word"], "__setitem__": None,
+                "__call__": ["self", "event"], "screen": ["self"], "standing": ["self"], "last_trace": ["self"],
+                "said_words": ["self"], "events_done": ["self"], "__len__": ["self"], "steps": ["self"],
+                "fork": ["self"], "undo": ["self"]}
+FUNCTIONS = {(rules, "all_rules"): [], (standings, "is_standing"): ["part", "value"],
+             (standings, "is_event"): ["part", "value"], (standings, "all_events"): ["part"],
+             (calling, "begin"): ["part", "rule", "words", "most"],
+             (calling, "step"): ["part", "rule", "standing", "event", "most"],
+             (judge, "faults"): ["part", "before", "trace", "after"]}
+ERRORS = {"InvalidPart": ["part", "path"], "InvalidRule": ["part"], "InvalidStart": ["words"],
+          "InvalidEvent": ["event"],
+          "InvalidPath": ["path"], "InvalidBound": ["value"], "InvalidText": ["line"], "UnknownInput": ["name"],
+          "UnknownWord": ["word"], "UnknownEvent": ["event"], "Slipped": ["path"], "TooManyLater": ["path"],
+          "TooManyCalls": ["most"], "LimitExceeded": ["limit"], "NoFault": ["kind", "path"], "InvalidKind": ["kind"],
+          "NotComparable": ["part"], "InvalidChange": ["index"], "NoFunction": ["path"], "InvalidStanding": [],
+          "NothingToUndo": [], "NoStanding": [], "NothingToRedo": []}
+
+
+def arguments(value):
+    return list(inspect.signature(value).parameters)
 
 
 class Interface(unittest.TestCase):
 
+    def methods_of(self, found, methods):
+        for name, expected in methods.items():
+            with self.subTest(name):
+                self.assertIn(name, vars(found))
+                if expected:
+                    self.assertEqual(arguments(vars(found)[name]), expected)
+
+    def most_is_by_keyword(self, value):
+        most = inspect.signature(value).parameters["most"]
+        self.assertEqual([most.kind, most.default], [inspect.Parameter.KEYWORD_ONLY, 50])
+
     def test_part(self):
         self.assertEqual(parts.Part.__module__, "calledanew.parts")
-        for name, arguments in METHODS.items():
-            with self.subTest(name):
-                self.assertIn(name, vars(parts.Part))
-                if arguments:
-                    self.assertEqual(list(inspect.signature(vars(parts.Part)[name]).parameters), arguments)
+        self.methods_of(parts.Part, PART_METHODS)
 
     def test_rule(self):
         self.assertEqual(rules.Rule.__module__, "calledanew.rules")
         self.assertIn("__eq__", vars(rules.Rule))
-        self.assertEqual(list(inspect.signature(rules.Rule.__init__).parameters), ["self", "batch", "same"])
-        self.assertEqual(rules.all_rules.__module__, "calledanew.rules")
-        self.assertEqual(list(inspect.signature(rules.all_rules).parameters), [])
+        self.assertEqual(arguments(rules.Rule.__init__), ["self", "batch", "same"])
+
+    def test_functions(self):
+        for (module, name), expected in FUNCTIONS.items():
+            found = getattr(module, name)
+            self.assertEqual([found.__module__, arguments(found)], [module.__name__, expected])
+        self.most_is_by_keyword(calling.begin)
+        self.most_is_by_keyword(calling.step)
+
+    def test_step(self):
+        self.assertEqual(calling.Step.__module__, "calledanew.calling")
+        part = parts.Part(("off", "on"), (), (), ())
+        first = calling.begin(part, rules.Rule("each", "call"), ())
+        self.assertEqual(set(vars(first)), {"event", "before", "after", "shown", "said", "trace", "calls", "done"})
+        self.assertEqual([type(first.calls)] + [type(value) for value in (first.shown, first.said, first.trace,
+                                                                          first.done)],
+                         [int, tuple, tuple, tuple, tuple])
+
+    def test_live(self):
+        self.assertEqual(live.Live.__module__, "calledanew.live")
+        self.methods_of(live.Live, LIVE_METHODS)
+        self.assertIsInstance(vars(live.Live)["resumed"], classmethod)
+        self.assertIsInstance(vars(live.Live)["bound"], property)
+        self.assertEqual(arguments(live.Live.resumed), ["part", "rule", "standing", "most"])
+        self.most_is_by_keyword(live.Live)
+        self.most_is_by_keyword(live.Live.resumed)
 
     def test_attributes_are_set_when_the_object_is_created(self):
         part = parts.Part(("off", "on"), (), (), ())
@@ -34,10 +85,15 @@ class Interface(unittest.TestCase):
             self.assertIn(name, vars(part))
         self.assertEqual(vars(rules.Rule("each", "call")), {"batch": "each", "same": "call"})
 
-    def test_errors_are_values_errors_of_the_package(self):
-        for name, value in vars(errors).items():
-            if isinstance(value, type):
-                self.assertTrue(issubclass(value, errors.CalledError), name)
+    def test_errors_are_directly_under_the_error_of_the_package(self):
+        self.assertEqual(errors.CalledError.__bases__, (ValueError,))
+        for name, expected in ERRORS.items():
+            found = getattr(errors, name)
+            self.assertEqual(found.__bases__, (errors.CalledError,))
+            values = [object() for value in expected]
+            error = found(*values)
+            self.assertEqual([getattr(error, name) for name in expected], values)
+            self.assertEqual(len(vars(error)), len(expected))
 
 
 if __name__ == "__main__":
