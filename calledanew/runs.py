@@ -24,13 +24,13 @@ class Run:
 
     def do_rows(self, path):
         """Do the tuple of rows at the path."""
-        course = self.course
-        course.marks[path] = True
-        for at, row in course.part.placed_rows[path]:
+        trace, slot_words = self.course.trace, self.slot_words
+        self.course.marks[path] = True
+        for at, row in self.course.part.placed_rows[path]:
             if row[0] == "say":
-                course.trace.append(("say", at, self.slot_words[row[1]]))
+                trace.append(("say", at, slot_words[row[1]]))
             elif row[0] == "if":
-                self.do_rows(at + (way_of(row, self.slot_words),))
+                self.do_rows(at + (way_of(row, slot_words),))
             else:
                 self.do_row(row, at)
 
