@@ -31,6 +31,10 @@ FIRST_ROWS = {"if": 3, "effect": 2, "handler": 3, "later": 1}
 # The index of the list in the rows that have one.
 LIST_PLACES = {"kept": 4, "effect": 1, "handler": 2}
 
+# In a text: what stands ahead of the names of a table or a list, and the line between two tuples of rows.
+MARKS = {"table": "=", "list": ":", "list or none": ":"}
+DIVIDERS = {"effect": "clean", "if": "else"}
+
 MOST_LIST = 4
 DEEPEST_CALL_IF = 3
 DEEPEST_FUNCTION_IF = 2

@@ -3,12 +3,16 @@
 import copy
 import unittest
 
+from calledanew.books import Book, is_closed
 from calledanew.calling import begin, step
 from calledanew.errors import CalledError, InvalidPart, InvalidPath, InvalidRule
+from calledanew.lists import full_list, least_lists, list_at, missing_slots, surplus_slots, with_list
 from calledanew.live import Live
 from calledanew.parts import Part
 from calledanew.rules import Rule, all_rules
 from calledanew.standings import is_event, is_standing
+from calledanew.texts import format_events, format_part, parse_events
+from calledanew.verdicts import Verdict
 from samples import (EVENTS, INPUTS, RICH_FUNCTIONS, RICH_HOOKS, RICH_ROWS, SWAP, WORDS, handler, nested, part_of,
                      rich_part, with_item)
 
@@ -112,6 +116,55 @@ def placed(value, path, item):
     if not path:
         return item
     return with_item(value, path[0], placed(value[path[0]], path[1:], item))
+
+
+class BooksAndLists(unittest.TestCase):
+
+    def test_no_argument_is_modified(self):
+        part, rule = Part(WORDS, INPUTS, EVENTS, ROWS), Rule("each", "call")
+        book = Book(part, rule)
+        standing = book.standings()[0]
+        events = [("tick",), ("press", "go")]
+        pairs = [("slip", ()), ("old", (1,)), ("old", (1,))]
+        kinds = ["old", "stale", "old"]
+        rows = copy.deepcopy(part.rows)
+        format_events(events)
+        verdict = Verdict(pairs)
+        verdict.only(kinds)
+        verdict | Verdict([]) | book.verdict()
+        least_lists(part, rule, (1,), kinds)
+        closed = book.standings()
+        is_closed(part, rule, closed)
+        format_part(part)
+        self.assertEqual([events, pairs, kinds, closed, part.rows],
+                         [[("tick",), ("press", "go")], [("slip", ()), ("old", (1,)), ("old", (1,))],
+                          ["old", "stale", "old"], book.standings(), rows])
+        for value in ([0], [["on"]], {"a": ["on"]}, ["on", {"x": (["on"],)}], (["on"], {}), list(standing)):
+            before = copy.deepcopy(value)
+            is_closed(part, rule, value)
+            self.assertFalse(value in book)
+            for ask in (lambda: book.least_run(value), lambda: book.follow(value, value),
+                        lambda: book.follow(standing, value), lambda: book.least_fault(value, value),
+                        lambda: book.way(value, standing), lambda: Book(part, rule, most=value),
+                        lambda: Book(part, rule, limit=value), lambda: list_at(part, value),
+                        lambda: full_list(part, value), lambda: missing_slots(part, value),
+                        lambda: surplus_slots(part, value), lambda: with_list(part, value, value),
+                        lambda: with_list(part, (1,), value), lambda: least_lists(part, rule, value, kinds),
+                        lambda: least_lists(part, rule, (1,), kinds, most=value),
+                        lambda: is_closed(part, rule, [], most=value)):
+                with self.assertRaises(CalledError):
+                    ask()
+            self.assertEqual(value, before)
+
+    def test_new_lists(self):
+        part, rule = Part(WORDS, INPUTS, EVENTS, ROWS), Rule("each", "call")
+        book = Book(part, rule)
+        for ask in (book.moves, book.starts, book.standings, book.faults, book.verdict().pairs, book.verdict().kinds,
+                    lambda: least_lists(part, rule, (1,), ["old"]), lambda: parse_events("tick\n")):
+            first = copy.deepcopy(ask())
+            ask().append(None)
+            ask().clear()
+            self.assertEqual(ask(), first)
 
 
 class AnyValues(unittest.TestCase):

@@ -3,7 +3,7 @@
 import inspect
 import unittest
 
-from calledanew import calling, errors, judge, live, parts, rules, standings
+from calledanew import books, calling, errors, judge, lists, live, parts, rules, standings, texts, verdicts
 
 PART_METHODS = {"__init__": ["self", "words", "inputs", "events", "rows"], "__eq__": None, "slots": ["self"],
                 "hooks": ["self"], "functions": ["self"], "held": ["self", "path"], "links": ["self", "path"],
@@ -14,11 +14,28 @@ LIVE_METHODS = {"__init__": ["self", "part", "rule", "words", "most"], "set_boun
                 "__call__": ["self", "event"], "screen": ["self"], "standing": ["self"], "last_trace": ["self"],
                 "said_words": ["self"], "events_done": ["self"], "__len__": ["self"], "steps": ["self"],
                 "fork": ["self"], "undo": ["self"]}
+BOOK_METHODS = {"__init__": ["self", "part", "rule", "most", "limit"], "__len__": ["self"], "__contains__": None,
+                "moves": ["self"], "starts": ["self"], "standings": ["self"], "least_run": ["self", "standing"],
+                "follow": ["self", "standing", "event"], "faults": ["self"], "least_fault": ["self", "kind", "path"],
+                "is_free": ["self", "kind"], "verdict": ["self"], "way": ["self", "first", "second"]}
+VERDICT_METHODS = {"__init__": ["self", "pairs"], "pairs": ["self"], "kinds": ["self"], "only": ["self", "kinds"],
+                   "__or__": None, "__and__": None, "__sub__": None, "__eq__": None, "__len__": ["self"],
+                   "__bool__": ["self"], "__contains__": None}
 FUNCTIONS = {(rules, "all_rules"): [], (standings, "is_standing"): ["part", "value"],
              (standings, "is_event"): ["part", "value"], (standings, "all_events"): ["part"],
              (calling, "begin"): ["part", "rule", "words", "most"],
              (calling, "step"): ["part", "rule", "standing", "event", "most"],
-             (judge, "faults"): ["part", "before", "trace", "after"]}
+             (judge, "faults"): ["part", "before", "trace", "after"],
+             (texts, "format_part"): ["part"], (texts, "parse_part"): ["text"], (texts, "format_events"): ["events"],
+             (texts, "parse_events"): ["text"], (books, "is_closed"): ["part", "rule", "value", "most"],
+             (lists, "list_at"): ["part", "path"], (lists, "full_list"): ["part", "path"],
+             (lists, "missing_slots"): ["part", "path"], (lists, "surplus_slots"): ["part", "path"],
+             (lists, "is_complete"): ["part"], (lists, "with_list"): ["part", "path", "slots"],
+             (lists, "least_lists"): ["part", "rule", "path", "kinds", "most", "limit"]}
+# What is passed by keyword, and what it is if it is left out.
+BOUNDS = {calling.begin: {"most": 50}, calling.step: {"most": 50}, live.Live: {"most": 50},
+          live.Live.resumed: {"most": 50}, books.Book: {"most": 50, "limit": 2000}, books.is_closed: {"most": 50},
+          lists.least_lists: {"most": 50, "limit": 2000}}
 ERRORS = {"InvalidPart": ["part", "path"], "InvalidRule": ["part"], "InvalidStart": ["words"],
           "InvalidEvent": ["event"],
           "InvalidPath": ["path"], "InvalidBound": ["value"], "InvalidText": ["line"], "UnknownInput": ["name"],
@@ -41,9 +58,12 @@ class Interface(unittest.TestCase):
                 if expected:
                     self.assertEqual(arguments(vars(found)[name]), expected)
 
-    def most_is_by_keyword(self, value):
-        most = inspect.signature(value).parameters["most"]
-        self.assertEqual([most.kind, most.default], [inspect.Parameter.KEYWORD_ONLY, 50])
+    def test_bounds_are_passed_by_keyword(self):
+        for value, bounds in BOUNDS.items():
+            parameters = inspect.signature(value).parameters
+            by_keyword = {name: parameters[name].default for name in parameters
+                          if parameters[name].kind == inspect.Parameter.KEYWORD_ONLY}
+            self.assertEqual(by_keyword, bounds)
 
     def test_part(self):
         self.assertEqual(parts.Part.__module__, "calledanew.parts")
@@ -58,8 +78,6 @@ class Interface(unittest.TestCase):
         for (module, name), expected in FUNCTIONS.items():
             found = getattr(module, name)
             self.assertEqual([found.__module__, arguments(found)], [module.__name__, expected])
-        self.most_is_by_keyword(calling.begin)
-        self.most_is_by_keyword(calling.step)
 
     def test_step(self):
         self.assertEqual(calling.Step.__module__, "calledanew.calling")
@@ -76,14 +94,23 @@ class Interface(unittest.TestCase):
         self.assertIsInstance(vars(live.Live)["resumed"], classmethod)
         self.assertIsInstance(vars(live.Live)["bound"], property)
         self.assertEqual(arguments(live.Live.resumed), ["part", "rule", "standing", "most"])
-        self.most_is_by_keyword(live.Live)
-        self.most_is_by_keyword(live.Live.resumed)
+
+    def test_book(self):
+        self.assertEqual(books.Book.__module__, "calledanew.books")
+        self.methods_of(books.Book, BOOK_METHODS)
+
+    def test_verdict(self):
+        self.assertEqual(verdicts.Verdict.__module__, "calledanew.verdicts")
+        self.methods_of(verdicts.Verdict, VERDICT_METHODS)
 
     def test_attributes_are_set_when_the_object_is_created(self):
         part = parts.Part(("off", "on"), (), (), ())
         for name in ("words", "inputs", "events", "rows"):
             self.assertIn(name, vars(part))
         self.assertEqual(vars(rules.Rule("each", "call")), {"batch": "each", "same": "call"})
+        rule = rules.Rule("each", "call")
+        book = books.Book(part, rule, most=7, limit=8)
+        self.assertEqual([vars(book)[name] for name in ("part", "rule", "most", "limit")], [part, rule, 7, 8])
 
     def test_errors_are_directly_under_the_error_of_the_package(self):
         self.assertEqual(errors.CalledError.__bases__, (ValueError,))
