@@ -2,6 +2,7 @@
 
 from calledanew.bounds import (MOST_CALLS, MOST_STANDINGS, USUAL_CALLS, USUAL_STANDINGS, check_bound,
                                check_bounds)
+from calledanew.classing import numbers_of_classes
 from calledanew.errors import InvalidEvent, LimitExceeded, NoFault, NoStanding
 from calledanew.finders import Finder, all_starts, outcome_of, run_behind
 from calledanew.judge import in_order
@@ -27,6 +28,8 @@ class Book:
         self.sources = []
         self.fill()
         self.ordered = in_order(list(self.tally.fault_sources))
+        # The numbers of the classes, once they were asked for.
+        self.classed = None
 
     def fill(self):
         """Do all starts, then all events from each standing in turn."""
@@ -57,6 +60,12 @@ class Book:
         if value not in self:
             raise NoStanding()
         return self.finder.numbers[value]
+
+    def class_numbers(self):
+        """Return for each standing the number of its class: the same number means that two are alike."""
+        if self.classed is None:
+            self.classed = numbers_of_classes(self.finder, self.events)
+        return self.classed
 
     def moves(self):
         """List the events of the book."""

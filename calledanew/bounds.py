@@ -11,6 +11,10 @@ MOST_CALLS = 500
 USUAL_STANDINGS = 2000
 MOST_STANDINGS = 10000
 
+# The same for the pairs of standings of a comparison.
+USUAL_PAIRS = 5000
+MOST_PAIRS = 20000
+
 
 def check_bound(value, greatest):
     """Refuse a value that is no integer from 1 to the greatest."""

@@ -28,12 +28,17 @@ class Step:
 def begin(part, rule, words, *, most=USUAL_CALLS):
     """Start the part with these words of its inputs and return the Step."""
     check_bound(most, MOST_CALLS)
-    many = len(part.inputs)
-    if not are_words(words, part.words, many, many):
-        raise InvalidStart(words)
+    check_start(part, words)
     course = Course(part, rule, most, words)
     call_and_follow(course)
     return Step(None, None, course)
+
+
+def check_start(part, words):
+    """Refuse a value that is no tuple with a word for each input."""
+    many = len(part.inputs)
+    if not are_words(words, part.words, many, many):
+        raise InvalidStart(words)
 
 
 def step(part, rule, standing, event, *, most=USUAL_CALLS):

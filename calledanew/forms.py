@@ -28,7 +28,8 @@ FORMS = {
 # The index of the first tuple of rows; nothing stands behind these tuples.
 FIRST_ROWS = {"if": 3, "effect": 2, "handler": 3, "later": 1}
 
-# The index of the list in the rows that have one.
+# The kinds of rows that have a list, and its index in them.
+LIST_KINDS = ("kept", "effect", "handler")
 LIST_PLACES = {"kept": 4, "effect": 1, "handler": 2}
 
 # In a text: what stands ahead of the names of a table or a list, and the line between two tuples of rows.

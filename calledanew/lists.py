@@ -3,7 +3,7 @@
 from calledanew.books import Book
 from calledanew.bounds import MOST_STANDINGS, USUAL_CALLS, USUAL_STANDINGS, check_bounds
 from calledanew.errors import InvalidPath, LimitExceeded
-from calledanew.forms import LIST_PLACES, MOST_LIST
+from calledanew.forms import LIST_KINDS, LIST_PLACES, MOST_LIST
 from calledanew.verdicts import check_kinds
 
 # The greatest number of slots in a full list for which the least lists are sought.
@@ -13,7 +13,7 @@ MOST_FULL = 5
 def list_row(part, path):
     """Return the list row at the path."""
     row = part.row_at(path)
-    if row[0] not in LIST_PLACES:
+    if row[0] not in LIST_KINDS:
         raise InvalidPath(path)
     return row
 
@@ -49,7 +49,7 @@ def slots_without(slots, others):
 
 def is_complete(part):
     """Tell whether no slot is missing at any list row."""
-    paths = [path for path in part.hooks() if part.row_at(path)[0] in LIST_PLACES]
+    paths = [path for path in part.hooks() if part.row_at(path)[0] in LIST_KINDS]
     return not any([len(missing_slots(part, path)) > 0 for path in paths])
 
 

@@ -41,6 +41,25 @@ BOXES = screen(BOX, CELL, handler(("fetch", "b", "y"), ("set", "a", "y"), ("writ
                effect(("write", "b", "a"), slots=("a",), clean=(SAY_A,)), ("show", "a"))
 NEEDLESS = screen(CELL, effect(SAY_A, slots=("x",)), effect(SAY_X, slots=None), handler(TURN_A))
 
+
+def counter(word):
+    """A part whose start counts on from a number of three digits to the last one, of which `word` is the last digit."""
+    turn = ("q", "r", "s", "p")
+    return Part(STEPS, (), (), (
+        ("cell", "a", word), ("cell", "b", "s"), ("cell", "c", "p"),
+        either(("put", "d", "q"), either(("put", "e", "q"), either(("put", "f", "q"), slot="c", word="s"), slot="b",
+                                         word="s"),
+               slot="a", word="s"),
+        effect(either(other=(("turn", "a", turn), either(("turn", "b", turn), slot="d", word="q"),
+                             either(("turn", "c", turn), slot="e", word="q")), slot="f", word="q"),
+               slots=("a", "b", "c")),
+        ("show", "a")))
+
+
+# Their starts do exactly fifty calls, and one more.
+FIFTY = counter("r")
+FIFTY_ONE = counter("q")
+
 NAMED = {"stale": STALE, "never": NEVER, "empty": EMPTY, "no rows": NO_ROWS, "no inputs": NO_INPUTS,
          "no events": NO_EVENTS, "two inputs": TWO_INPUTS, "slips": SLIPS, "waits": WAITS, "full": FULL, "mixed": MIXED,
          "counts": COUNTS, "back": BACK, "boxes": BOXES, "needless": NEEDLESS}

@@ -3,9 +3,13 @@
 import copy
 import unittest
 
+from calledanew.alike import alike, classes, difference, parting
 from calledanew.books import Book, is_closed
 from calledanew.calling import begin, step
+from calledanew.counting import costs, most_runs, never_done
+from calledanew.desk import Desk
 from calledanew.errors import CalledError, InvalidPart, InvalidPath, InvalidRule
+from calledanew.heals import heals, is_change, rules_free, with_changes
 from calledanew.lists import full_list, least_lists, list_at, missing_slots, surplus_slots, with_list
 from calledanew.live import Live
 from calledanew.parts import Part
@@ -162,6 +166,60 @@ class BooksAndLists(unittest.TestCase):
         for ask in (book.moves, book.starts, book.standings, book.faults, book.verdict().pairs, book.verdict().kinds,
                     lambda: least_lists(part, rule, (1,), ["old"]), lambda: parse_events("tick\n")):
             first = copy.deepcopy(ask())
+            ask().append(None)
+            ask().clear()
+            self.assertEqual(ask(), first)
+
+
+class WholeProgram(unittest.TestCase):
+    """What is asked of books, comparisons, counts, changes and desks."""
+
+    def test_no_argument_is_modified(self):
+        part, rule = Part(WORDS, INPUTS, EVENTS, ROWS), Rule("each", "call")
+        book = Book(part, rule)
+        standing, rows = book.standings()[0], copy.deepcopy(part.rows)
+        rules, kinds = all_rules(), ["old", "stale", "old"]
+        candidates = [("none", (1,)), ("list", (2,), ("a",))]
+        edits = [((0,), ("cell", "a", "on"))]
+        desk = Desk(part, rules)
+        classes(book)
+        heals(part, rule, "stale", candidates)
+        with_changes(part, candidates)
+        rules_free(part, kinds)
+        costs(part, (("on",), (("tick",),)))
+        desk.attempt(edits)
+        self.assertEqual([candidates, kinds, edits, part.rows, [at.same for at in rules]],
+                         [[("none", (1,)), ("list", (2,), ("a",))], ["old", "stale", "old"],
+                          [((0,), ("cell", "a", "on"))], rows, ["pass", "call", "pass", "call"]])
+        for value in ([0], [["on"]], {"a": ["on"]}, ["on", {"x": (["on"],)}], (["on"], {}), list(standing),
+                      *nested(20)):
+            before = copy.deepcopy(value)
+            self.assertFalse(is_change(part, value))
+            for ask in (lambda: parting(book, standing, value), lambda: parting(book, value, standing),
+                        lambda: most_runs(book, value), lambda: with_changes(part, [value]),
+                        lambda: heals(part, rule, "old", [value]), lambda: heals(part, rule, "old", [], most=value),
+                        lambda: heals(part, rule, "old", [], limit=value), lambda: rules_free(part, [], most=value),
+                        lambda: rules_free(part, [], limit=value), lambda: costs(part, (value, ())),
+                        lambda: costs(part, (("on",), (value,))), lambda: costs(part, (("on",), ()), most=value),
+                        lambda: difference((part, rule), (part, rule), most=value),
+                        lambda: alike((part, rule), (part, rule), limit=value), lambda: desk[value],
+                        lambda: desk.attempt([(value, value)]), lambda: desk.attempt([((0,), value)]),
+                        lambda: Desk(part, rules, most=value), lambda: Desk(part, rules, limit=value)):
+                with self.assertRaises(CalledError):
+                    ask()
+            for path, row in ((value, value), ((0,), value)):
+                with self.assertRaises(CalledError):
+                    desk[path] = row
+            self.assertEqual(value, before)
+        self.assertEqual([len(desk), desk.current], [0, part])
+
+    def test_new_lists(self):
+        part, rule = Part(WORDS, INPUTS, EVENTS, ROWS), Rule("each", "call")
+        book, desk = Book(part, rule), Desk(part, all_rules())
+        run = (("on",), (("tick",),))
+        for ask in (lambda: classes(book), lambda: never_done(book), lambda: costs(part, run), desk.verdicts,
+                    lambda: heals(part, rule, "old", []), lambda: rules_free(part, []), lambda: desk.attempt([])):
+            first = list(ask())
             ask().append(None)
             ask().clear()
             self.assertEqual(ask(), first)

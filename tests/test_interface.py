@@ -3,7 +3,9 @@
 import inspect
 import unittest
 
-from calledanew import books, calling, errors, judge, lists, live, parts, rules, standings, texts, verdicts
+from calledanew import (alike, books, calling, counting, desk, errors, heals, judge, lists, live, parts, rules,
+                        standings,
+                        texts, verdicts)
 
 PART_METHODS = {"__init__": ["self", "words", "inputs", "events", "rows"], "__eq__": None, "slots": ["self"],
                 "hooks": ["self"], "functions": ["self"], "held": ["self", "path"], "links": ["self", "path"],
@@ -21,6 +23,9 @@ BOOK_METHODS = {"__init__": ["self", "part", "rule", "most", "limit"], "__len__"
 VERDICT_METHODS = {"__init__": ["self", "pairs"], "pairs": ["self"], "kinds": ["self"], "only": ["self", "kinds"],
                    "__or__": None, "__and__": None, "__sub__": None, "__eq__": None, "__len__": ["self"],
                    "__bool__": ["self"], "__contains__": None}
+DESK_METHODS = {"__init__": ["self", "part", "rules", "most", "limit"], "put_part": ["self", "part"], "__ior__": None,
+                "__getitem__": None, "__setitem__": None, "__len__": ["self"], "undo": ["self"], "redo": ["self"],
+                "verdicts": ["self"], "attempt": ["self", "edits"]}
 FUNCTIONS = {(rules, "all_rules"): [], (standings, "is_standing"): ["part", "value"],
              (standings, "is_event"): ["part", "value"], (standings, "all_events"): ["part"],
              (calling, "begin"): ["part", "rule", "words", "most"],
@@ -31,11 +36,23 @@ FUNCTIONS = {(rules, "all_rules"): [], (standings, "is_standing"): ["part", "val
              (lists, "list_at"): ["part", "path"], (lists, "full_list"): ["part", "path"],
              (lists, "missing_slots"): ["part", "path"], (lists, "surplus_slots"): ["part", "path"],
              (lists, "is_complete"): ["part"], (lists, "with_list"): ["part", "path", "slots"],
-             (lists, "least_lists"): ["part", "rule", "path", "kinds", "most", "limit"]}
+             (lists, "least_lists"): ["part", "rule", "path", "kinds", "most", "limit"],
+             (alike, "difference"): ["first", "second", "says_only", "most", "limit"],
+             (alike, "alike"): ["first", "second", "says_only", "most", "limit"],
+             (alike, "parting"): ["book", "first", "second"], (alike, "classes"): ["book"],
+             (counting, "most_calls"): ["book"], (counting, "most_runs"): ["book", "path"],
+             (counting, "never_done"): ["book"], (counting, "costs"): ["part", "run", "most"],
+             (heals, "is_change"): ["part", "value"], (heals, "with_changes"): ["part", "changes"],
+             (heals, "heals"): ["part", "rule", "kind", "candidates", "most", "limit"],
+             (heals, "rules_free"): ["part", "kinds", "most", "limit"]}
 # What is passed by keyword, and what it is if it is left out.
 BOUNDS = {calling.begin: {"most": 50}, calling.step: {"most": 50}, live.Live: {"most": 50},
           live.Live.resumed: {"most": 50}, books.Book: {"most": 50, "limit": 2000}, books.is_closed: {"most": 50},
-          lists.least_lists: {"most": 50, "limit": 2000}}
+          lists.least_lists: {"most": 50, "limit": 2000},
+          alike.difference: {"says_only": False, "most": 50, "limit": 5000},
+          alike.alike: {"says_only": False, "most": 50, "limit": 5000}, counting.costs: {"most": 50},
+          heals.heals: {"most": 50, "limit": 2000}, heals.rules_free: {"most": 50, "limit": 2000},
+          desk.Desk: {"most": 50, "limit": 2000}}
 ERRORS = {"InvalidPart": ["part", "path"], "InvalidRule": ["part"], "InvalidStart": ["words"],
           "InvalidEvent": ["event"],
           "InvalidPath": ["path"], "InvalidBound": ["value"], "InvalidText": ["line"], "UnknownInput": ["name"],
@@ -103,6 +120,10 @@ class Interface(unittest.TestCase):
         self.assertEqual(verdicts.Verdict.__module__, "calledanew.verdicts")
         self.methods_of(verdicts.Verdict, VERDICT_METHODS)
 
+    def test_desk(self):
+        self.assertEqual(desk.Desk.__module__, "calledanew.desk")
+        self.methods_of(desk.Desk, DESK_METHODS)
+
     def test_attributes_are_set_when_the_object_is_created(self):
         part = parts.Part(("off", "on"), (), (), ())
         for name in ("words", "inputs", "events", "rows"):
@@ -111,6 +132,8 @@ class Interface(unittest.TestCase):
         rule = rules.Rule("each", "call")
         book = books.Book(part, rule, most=7, limit=8)
         self.assertEqual([vars(book)[name] for name in ("part", "rule", "most", "limit")], [part, rule, 7, 8])
+        made = desk.Desk(part, [rule])
+        self.assertEqual([vars(made)[name] for name in ("current", "watched")], [part, ()])
 
     def test_errors_are_directly_under_the_error_of_the_package(self):
         self.assertEqual(errors.CalledError.__bases__, (ValueError,))

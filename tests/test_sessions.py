@@ -1,4 +1,4 @@
-"""The examples of the document that use texts, books, verdicts and lists, each as a session of its own."""
+"""The examples of the document that use texts, books and what is built on them, each as a session of its own."""
 
 import unittest
 
@@ -50,6 +50,70 @@ raises LimitExceeded(1)
 >>> [full_list(part, (1,)), missing_slots(part, (1,)), least_lists(part, rule, (1,), ["stale"])]
 [('c',), ('c',), [('c',)]]
 
+>>> from calledanew.parts import Part
+>>> from calledanew.rules import Rule
+>>> from calledanew.lists import with_list
+>>> from calledanew.alike import difference
+>>> part = Part(("off", "on"), (), ("go",), (("cell", "c", "off"), ("handler", "go", (), (("map", "c", "c", ("on", "off")), ("set", "c", "c"))), ("show", "c")))
+>>> rule = Rule("together", "pass")
+>>> difference((part, rule), (with_list(part, (1,), ("c",)), rule))
+((), (('press', 'go'), ('press', 'go')))
+
+>>> from calledanew.parts import Part
+>>> from calledanew.rules import Rule
+>>> from calledanew.books import Book
+>>> from calledanew.alike import classes, parting
+>>> part = Part(("off", "on"), (), ("go",), (("cell", "c", "off"), ("handler", "go", (), (("map", "c", "c", ("on", "off")), ("set", "c", "c"))), ("show", "c")))
+>>> rule = Rule("together", "pass")
+>>> book = Book(part, rule)
+>>> standings = book.standings()
+>>> [classes(book), parting(book, standings[0], standings[1])]
+[[[0], [1]], ()]
+
+>>> from calledanew.parts import Part
+>>> from calledanew.rules import Rule
+>>> from calledanew.books import Book
+>>> from calledanew.counting import most_calls, most_runs
+>>> part = Part(("off", "on"), (), ("go",), (("cell", "c", "off"), ("handler", "go", (), (("map", "c", "c", ("on", "off")), ("set", "c", "c"))), ("show", "c")))
+>>> rule = Rule("together", "pass")
+>>> book = Book(part, rule)
+>>> [most_calls(book), most_runs(book, (1, 0))]
+[(1, ((), ())), (1, ((), (('press', 'go'),)))]
+
+>>> from calledanew.parts import Part
+>>> from calledanew.rules import Rule
+>>> from calledanew.counting import costs
+>>> part = Part(("off", "on"), (), ("go",), (("cell", "c", "off"), ("handler", "go", (), (("map", "c", "c", ("on", "off")), ("set", "c", "c"))), ("show", "c")))
+>>> costs(part, ((), (("press", "go"), ("press", "go"))))
+[(2, 2), (3, 2), (2, 2), (3, 2)]
+
+>>> from calledanew.parts import Part
+>>> from calledanew.rules import Rule
+>>> from calledanew.heals import heals
+>>> part = Part(("off", "on"), (), ("go",), (("cell", "c", "off"), ("handler", "go", (), (("map", "c", "c", ("on", "off")), ("set", "c", "c"))), ("show", "c")))
+>>> rule = Rule("together", "pass")
+>>> heals(part, rule, "stale", [("list", (1,), ("c",)), ("none", (1,))])
+[(('list', (1,), ('c',)),), (('none', (1,)),)]
+
+>>> from calledanew.parts import Part
+>>> from calledanew.rules import Rule
+>>> from calledanew.heals import rules_free
+>>> part = Part(("off", "on"), (), ("go",), (("cell", "c", "off"), ("handler", "go", (), (("map", "c", "c", ("on", "off")), ("set", "c", "c"))), ("show", "c")))
+>>> rule = Rule("together", "pass")
+>>> [len(rules_free(part, ["stale"])), len(rules_free(part, ["needless"]))]
+[0, 4]
+
+>>> from calledanew.parts import Part
+>>> from calledanew.rules import Rule
+>>> from calledanew.desk import Desk
+>>> part = Part(("off", "on"), (), ("go",), (("cell", "c", "off"), ("handler", "go", (), (("map", "c", "c", ("on", "off")), ("set", "c", "c"))), ("show", "c")))
+>>> rule = Rule("together", "pass")
+>>> desk = Desk(part, [rule])
+>>> desk |= "stale"
+>>> desk[(1,)] = ("handler", "go", None, (("map", "c", "c", ("on", "off")), ("set", "c", "c")))
+>>> [desk.verdicts()[0].pairs(), len(desk)]
+[[], 1]
+
 >>> from calledanew.verdicts import Verdict
 >>> first = Verdict([("stale", (1,))])
 >>> (first | Verdict([("slip", ()), ("mixed", (0,))])).pairs()
@@ -93,7 +157,7 @@ class Sessions(unittest.TestCase):
 
     def test_each_session(self):
         sessions = SESSIONS.split("\n\n")
-        self.assertEqual(len(sessions), 9)
+        self.assertEqual(len(sessions), 16)
         for session in sessions:
             with self.subTest(session):
                 expected, last = play(session)
