@@ -108,6 +108,21 @@ class Tried(unittest.TestCase):
             self.assertEqual(least_lists(part, PASS, (0,), ["stale"]), [changing])
             self.assertEqual(least_lists(part, PASS, (0,), ["needless"]), [()])
 
+    def test_least_lists_of_three_and_four_slots(self):
+        # Each slot changes by itself, so all of them must be in the list; five of them find no place in it.
+        changing = ("a", "b", "c", "x", "y")
+        turns = [("handler", event, None, (("turn", cell, SWAP),)) for event, cell in (("up", "a"), ("no", "b"))]
+        cells = [("cell", "a", "off"), ("cell", "b", "off")]
+        for slots in (changing[:2] + ("x",), ("a", "b", "x", "y"), ("a", "x", "y")):
+            part = screen(*cells, *turns, handler(*[("say", slot) for slot in slots], ("say", "q")), inputs=("x", "y"),
+                          events=("go", "up", "no"))
+            self.assertEqual(least_lists(part, PASS, (4,), ["stale"]), [slots])
+        part = screen(("cell", "c", "off"), *cells, *turns,
+                      handler(*[("say", slot) for slot in changing], ("turn", "c", SWAP)), inputs=("x", "y"),
+                      events=("go", "up", "no"))
+        self.assertEqual(full_list(part, (5,)), changing)
+        self.assertEqual(least_lists(part, PASS, (5,), ["stale"]), [])
+
     def test_no_kinds(self):
         for part, path in ((STALE, (1,)), (TWO_INPUTS, (0,)), (TWO_INPUTS, (2,)), (NO_EVENTS, (1,))):
             for kinds in ([], ()):
